@@ -1,0 +1,1 @@
+"""Ringclause: clauses and bounds between moments, decided with papers."""

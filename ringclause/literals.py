@@ -124,7 +124,6 @@ def clauses_stand(clauses, values):
 
 def holds(literal, values):
     """Whether a literal holds under values."""
-    check_literal(literal)
     return clause_holds((literal,), values)
 
 

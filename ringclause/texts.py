@@ -97,8 +97,9 @@ def told_values(text):
         return ((), ())
     words = text.split(" ")
     names = [word for word in words if is_name(word)]
+    # A name behind a time leaves another name among the words that must be times.
     times = [told_time(word) for word in words[len(names):]]
-    if None in times or words[:len(names)] != names:
+    if None in times:
         return None
     moments = [name for name, _ in times]
     if names != sorted(set(names)) or moments != sorted(set(moments)):

@@ -36,8 +36,8 @@ NO_LITERALS = PLAIN + [
 ]
 
 GOOD_NAMES = ["p", "z", "a0", "x9z", "abcdefgh", "a1234567", "z9999999"]
-BAD_NAMES = ["", "abcdefghi", "a12345678", "0", "9a", "P", "pQ", "a_b", "_a", "a-b", "~p", "a b", " a", "a ", "a\n", "\t",
-             "a=", "!", "a|b", "-a", None, 7, True, b"p", ["p"], ("p",)]
+BAD_NAMES = ["", "abcdefghi", "a12345678", "0", "9a", "P", "pQ", "a_b", "_a", "a-b", "~p", "a b", " a", "a ", "a\n",
+             "\t", "a=", "!", "a|b", "-a", None, 7, True, b"p", ["p"], ("p",)]
 
 
 def yes(name):

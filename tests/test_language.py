@@ -15,9 +15,9 @@ BUILTINS = set(
     "all divmod super ValueError TypeError KeyError NotImplemented property classmethod staticmethod True False None "
     "iter next".split())
 METHODS = set(
-    "append clear copy count endswith extend find get index insert isalnum isalpha isdigit islower isspace isupper items "
-    "join keys ljust lower lstrip partition pop remove replace reverse rfind rjust rpartition rsplit rstrip setdefault "
-    "split splitlines startswith strip update upper values zfill bit_length add discard".split())
+    "append clear copy count endswith extend find get index insert isalnum isalpha isdigit islower isspace isupper "
+    "items join keys ljust lower lstrip partition pop remove replace reverse rfind rjust rpartition rsplit rstrip "
+    "setdefault split splitlines startswith strip update upper values zfill bit_length add discard".split())
 DUNDERS = set(
     "__init__ __eq__ __repr__ __str__ __len__ __call__ __iter__ __and__ __sub__ __contains__ __name__".split())
 DECORATORS = ("property", "setter", "classmethod", "staticmethod")

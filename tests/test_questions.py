@@ -176,7 +176,8 @@ class TextTest(unittest.TestCase):
                          "Question((('most', 'x', 'y', -2), ('no', 'q')), (('yes', 'p'),))")
 
     def test_written_and_read(self):
-        for question in [Question(), Question([]), Question(FIRST, SECOND), Question(FIRST, [], [most("x", "y", -HUGE)])]:
+        for question in [Question(), Question([]), Question(FIRST, SECOND),
+                         Question(FIRST, [], [most("x", "y", -HUGE)])]:
             read = Question.read(str(question))
             self.assertIsInstance(read, Question)
             self.assertEqual(read.clauses, question.clauses)

@@ -195,7 +195,7 @@ class LanguageTest(unittest.TestCase):
             if isinstance(node, ast.Compare):
                 for op, right in zip(node.ops, node.comparators):
                     if isinstance(op, (ast.Is, ast.IsNot)):
-                        self.assertIn(getattr(right, "value", 0), (None, True, False))
+                        self.assertIn(ast.unparse(right), ("None", "True", "False"))
 
     def test_sets_stand_only_where_they_may(self):
         for source, node in self.each(ast.Set, ast.SetComp, ast.Call):

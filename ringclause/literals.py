@@ -11,7 +11,7 @@ def is_name(value):
     """True if the value is a name."""
     if not isinstance(value, str) or not 1 <= len(value) <= LONGEST_NAME:
         return False
-    return value[0] in LETTERS and all([sign in SIGNS for sign in value])
+    return value[0] in LETTERS and value.strip(SIGNS) == ""
 
 
 def is_integer(value):
@@ -55,7 +55,12 @@ def check_literal(value):
 def complement(literal):
     """The literal that holds exactly where this one does not."""
     check_literal(literal)
-    if is_bound(literal):
+    return opposite(literal)
+
+
+def opposite(literal):
+    """The complement of a value that surely is a literal."""
+    if literal[0] == "most":
         _, first, second, limit = literal
         # Moments are integers, so "not at most k" is "at least k + 1".
         return ("most", second, first, -limit - 1)
@@ -65,8 +70,9 @@ def complement(literal):
 
 def atom_of(literal):
     """The one of the literal and its complement that stands for both."""
-    other = complement(literal)
-    if is_bound(literal):
+    check_literal(literal)
+    other = opposite(literal)
+    if literal[0] == "most":
         return literal if literal[1] < literal[2] else other
     return literal if literal[0] == "yes" else other
 
@@ -92,6 +98,11 @@ def clause_of(literals):
         raise InvalidClause(literals)
     for literal in literals:
         check_literal(literal)
+    return normal_form(literals)
+
+
+def normal_form(literals):
+    """The normal form of a list or tuple of values that surely are literals."""
     return tuple(sorted(set(literals)))
 
 

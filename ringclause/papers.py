@@ -2,7 +2,7 @@
 
 from ringclause.chains import is_ring, total_of
 from ringclause.errors import InvalidPivot, WrongStep
-from ringclause.literals import clause_of, complement, is_clause, is_integer, is_literal
+from ringclause.literals import clause_of, complement, is_clause, is_integer, is_literal, normal_form, opposite
 
 
 def resolve(clause, pivot, other):
@@ -22,7 +22,7 @@ def resolvent(first, pivot, second):
     other = complement(pivot)
     left = [literal for literal in first if literal != pivot]
     right = [literal for literal in second if literal != other]
-    return clause_of(left + right)
+    return normal_form(left + right)
 
 
 def first_wrong_step(question, paper):
@@ -104,19 +104,24 @@ def ring_clause(bounds, total):
         return None
     if total != total_of(bounds) or total >= 0:
         return None
-    return clause_of([complement(bound) for bound in bounds])
+    return normal_form([opposite(bound) for bound in bounds])
 
 
 def learn_clause(clause, first, rows, earlier):
     """The clause of a learn step, None if the step is wrong."""
     if not is_clause(clause) or not is_earlier(first, earlier) or not isinstance(rows, tuple):
         return None
+    return clause if clause == rows_clause(first, rows, earlier) else None
+
+
+def rows_clause(first, rows, earlier):
+    """The clause that rows make of that of step `first`, None if a row is wrong."""
     current = earlier[first]
     for row in rows:
         current = row_clause(current, row, earlier)
         if current is None:
             return None
-    return clause if clause == current else None
+    return current
 
 
 def row_clause(current, row, earlier):

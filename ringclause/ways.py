@@ -21,6 +21,10 @@ def ways_with(ways, moments, bound):
     the bound, and an old one from it.
     """
     _, first, second, limit = bound
+    old = best_way(ways, first, second)
+    # Every way over the bound has then a lesser one over the old way.
+    if old is not None and old[0] < limit:
+        return ways
     grown = {pair: ways[pair] for pair in ways}
     for start in moments:
         before = best_way(ways, start, first)
@@ -34,13 +38,26 @@ def ways_with(ways, moments, bound):
     return grown
 
 
+def no_ring():
+    """The ring and the best ways of no bounds."""
+    return (None, {})
+
+
+def ring_and_ways_with(known, moments, bound):
+    """The ring and the best ways of the bounds of `known` and one bound behind them."""
+    ring, ways = known
+    if ring is not None:
+        return known
+    _, first, second, limit = bound
+    back = best_way(ways, second, first)
+    if back is not None and back[0] + limit < 0:
+        return ((bound, *back[2]), ways)
+    return (None, ways_with(ways, moments, bound))
+
+
 def ring_and_ways(bounds, moments):
     """The ring of the bounds, None if they are consistent, and the best ways of the bounds before its first one."""
-    ways = {}
+    known = no_ring()
     for bound in bounds:
-        _, first, second, limit = bound
-        back = best_way(ways, second, first)
-        if back is not None and back[0] + limit < 0:
-            return ((bound, *back[2]), ways)
-        ways = ways_with(ways, moments, bound)
-    return (None, ways)
+        known = ring_and_ways_with(known, moments, bound)
+    return known

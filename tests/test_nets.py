@@ -8,43 +8,11 @@ from ringclause.errors import Inconsistent, InvalidLiteral, InvalidName, Unknown
 from ringclause.literals import holds
 from ringclause.nets import Net
 from tests.samples import BAD_NAMES, GOOD_NAMES, HUGE, NO_LITERALS, Stubborn, most, no, yes
+from tests.slow import slow_chain, slow_ring
 
 LOOP = Net(most("x", "y", -1), most("y", "x", -1), most("x", "z", 0))
 LOOP_RING = (most("y", "x", -1), most("x", "y", -1))
 NO_BOUNDS = NO_LITERALS + [yes("p"), no("p"), yes("x")]
-
-
-def all_chains(bounds, start, end, longest):
-    """All chains from one moment to another with at most so many bounds, in no order."""
-    found = []
-    edges = [(bound,) for bound in bounds if bound[1] == start]
-    for _ in range(longest):
-        found.extend(chain for chain in edges if chain[-1][2] == end)
-        edges = [(*chain, bound) for chain in edges for bound in bounds if bound[1] == chain[-1][2]]
-    return found
-
-
-def weight(chain):
-    return (sum(bound[3] for bound in chain), len(chain), chain)
-
-
-def slow_chain(bounds, start, end):
-    """The best chain in a consistent set of bounds; one without a ring in it is among the best."""
-    many = len({name for bound in bounds for name in bound[1:3]})
-    found = all_chains(bounds, start, end, many)
-    return min(found, key=weight) if found else None
-
-
-def has_negative_ring(bounds):
-    moments = {name for bound in bounds for name in bound[1:3]}
-    return any(weight(ring)[0] < 0 for name in moments for ring in all_chains(bounds, name, name, len(moments)))
-
-
-def slow_ring(bounds):
-    for place, bound in enumerate(bounds):
-        if has_negative_ring(bounds[:place + 1]):
-            return (bound, *slow_chain(bounds[:place], bound[2], bound[1]))
-    return None
 
 
 def slow_least(net, top):

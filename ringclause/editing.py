@@ -61,7 +61,7 @@ def references(step):
     """The indexes of the steps to which a right step refers."""
     if step[0] != "learn":
         return []
-    _, _, first, rows = step
+    first, rows = step[2:]
     return [first, *[index for _, index in rows]]
 
 

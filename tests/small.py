@@ -34,8 +34,15 @@ def dense_question(chance):
     return Question(*[some_clause(chance, atoms) for _ in range(chance.randrange(8, 20))])
 
 
+def knotty_question(chance):
+    """A small question without short clauses, so that its search meets clashes."""
+    atoms = some_atoms(chance, chance.randrange(2, 6), chance.randrange(1, 5))
+    clauses = [chance.sample(atoms, min(3, len(atoms))) for _ in range(chance.randrange(12, 30))]
+    return Question(*[[chance.choice([atom, complement(atom)]) for atom in clause] for clause in clauses])
+
+
 def some_machine(chance):
-    question = chance.choice([some_question, dense_question])(chance)
+    question = chance.choice([some_question, dense_question, knotty_question])(chance)
     extra = [chance.choice([atom, complement(atom)]) for atom in some_atoms(chance, 2, 1)][:chance.randrange(4)]
     return Machine(question, extra=extra, pace=chance.randrange(1, 4), spread=chance.randrange(4))
 

@@ -238,6 +238,26 @@ class LanguageTest(unittest.TestCase):
             if isinstance(node.func, ast.Attribute):
                 self.assertIn(node.func.attr, METHODS | own)
 
+    def test_no_name_is_a_method_and_an_attribute(self):
+        methods, attributes = set(), set()
+        for source, node in self.each(ast.FunctionDef, ast.Attribute):
+            if isinstance(node, ast.FunctionDef) and isinstance(source.parents[node], ast.ClassDef):
+                methods.add(node.name)
+            elif isinstance(node, ast.Attribute) and isinstance(node.ctx, ast.Store):
+                attributes.add(node.attr)
+        self.assertEqual(methods & attributes, set())
+
+    def test_targets(self):
+        for source, node in self.each(ast.Tuple):
+            if isinstance(node.ctx, ast.Store):
+                names = [item.id for item in node.elts if isinstance(item, ast.Name)]
+                self.assertEqual(len(set(names)), len(names))
+
+    def test_every_import_is_used(self):
+        for source in SOURCES:
+            used = {node.id for node in source.of(ast.Name)}
+            self.assertLessEqual(set(source.imported()), used, source.path.name)
+
     def test_raise_and_except(self):
         for source, node in self.each(ast.Raise, ast.ExceptHandler):
             if isinstance(node, ast.Raise):

@@ -391,6 +391,18 @@ class PutTest(MachineCase):
         self.refused(machine, ("put", bounds[3], chain(*bounds[:2])))
         machine.do(("put", bounds[2], chain(*bounds[:2])))
 
+    def test_a_chain_of_bounds_that_are_not_true(self):
+        free, false = [most("x", "w", -1), most("w", "z", -1)], complement(most("x", "y", 5))
+        machine = machine_after(Question(), ("decide", false), ("decide", most("z", "x", 3)), ("decide", YZ),
+                                extra=[*free, false, YZ, XZ, most("z", "x", 3)])
+        self.assertEqual(machine.truth_of(XZ), "free")
+        self.refused(machine, ("put", XZ, chain(*free)), ("put", XZ, chain(most("x", "y", 5), YZ)),
+                     ("put", XZ, chain(most("x", "z", -4))), ("put", XZ, chain(most("x", "y", -7), YZ)))
+        machine.do(("decide", free[0]))
+        self.refused(machine, ("put", XZ, chain(*free)))
+        machine.do(("decide", free[1]))
+        machine.do(("put", XZ, chain(*free)))
+
     def test_a_forgotten_clause_is_no_reason(self):
         machine = forgetful_machine()
         self.assertNotIn(6, machine.numbers)

@@ -142,7 +142,8 @@ def slow_forced(machine):
 def is_slow_clash(machine, clash):
     word, told = clash
     if word == "clause":
-        return told in machine.numbers and all(literal in false_literals(machine) for literal in machine.clause_at(told))
+        return told in machine.numbers and all(literal in false_literals(machine)
+                                               for literal in machine.clause_at(told))
     return (all(bound in true_bounds(machine) for bound in told)
             and all(before[2] == after[1] for before, after in zip(told, [*told[1:], told[0]]))
             and sum(bound[3] for bound in told) < 0)

@@ -509,7 +509,8 @@ class HistoryTest(DeskCase):
 
 class RunTest(DeskCase):
     def test_every_kind_of_row(self):
-        rows = [("tell", (P, Q), [NP]), ("ask",), ("push",), ("tell",), ("tell", [NQ]), ("ask",), ("ask", R, S), ("drop",),
+        rows = [("tell", (P, Q), [NP]), ("ask",), ("push",), ("tell",), ("tell", [NQ]), ("ask",), ("ask", R, S),
+                ("drop",),
                 ("width", 1), ("ask", NQ), ("ask", Q, Q)]
         for given in [rows, tuple(rows)]:
             desk = Desk([R, S])

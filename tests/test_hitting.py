@@ -10,7 +10,8 @@ from tests.samples import HUGE
 
 def slow_hitting(sets, weights):
     """The best of all hitting tuples."""
-    tuples = [chosen for many in range(len(weights) + 1) for chosen in itertools.combinations(range(len(weights)), many)]
+    places = range(len(weights))
+    tuples = [chosen for many in range(len(weights) + 1) for chosen in itertools.combinations(places, many)]
     hitting = [chosen for chosen in tuples if all(set(chosen) & set(positions) for positions in sets)]
     return min(hitting, key=lambda chosen: (sum(weights[at] for at in chosen), len(chosen), chosen), default=None)
 

@@ -187,7 +187,8 @@ class ClashTest(MachineCase):
         machine = machine_after(question, ("decide", P), ("decide", NR), ("decide", XY))
         self.assertEqual([machine.clashes(), len(machine.forced())], [(), 3])
         machine.do(("decide", Q))
-        self.assertEqual(machine.clashes(), (at(question, most("y", "x", 0), NQ), at(question, NP, NQ), at(question, NQ, R)))
+        clauses = [(most("y", "x", 0), NQ), (NP, NQ), (NQ, R)]
+        self.assertEqual(machine.clashes(), tuple(at(question, *literals) for literals in clauses))
         self.assertEqual(machine.forced(), ())
         # A clause that ties two bounds to the ring that they are, too.
         question = Question([most("y", "x", 0), most("x", "y", 1)], [P, XY], [P, most("y", "x", -2)])
@@ -296,7 +297,8 @@ class ResolvedTest(MachineCase):
     def test_a_chain_as_reason(self):
         far = most("x", "z", -2)
         question = Question([complement(far), NP], [P, Q], [complement(far), NQ])
-        begin = [("decide", XY), ("decide", YZ), ("put", far, chain(XY, YZ)), ("put", NP, at(question, complement(far), NP))]
+        begin = [("decide", XY), ("decide", YZ), ("put", far, chain(XY, YZ)),
+                 ("put", NP, at(question, complement(far), NP))]
         clash = at(question, P, Q)
         machine = machine_after(question, *begin, ("decide", NQ), extra=[XY, YZ])
         self.assertEqual(machine.clashes(), (clash,))
@@ -331,7 +333,8 @@ class ResolvedTest(MachineCase):
         self.assertIsNotNone(machine.resolved(ring(ZX, XY, YZ), 0))
 
     def test_rings_that_are_not_negative(self):
-        machine = machine_after(Question(), ("decide", XY), ("decide", most("y", "x", 1)), extra=[XY, most("y", "x", 1)])
+        machine = machine_after(Question(), ("decide", XY), ("decide", most("y", "x", 1)),
+                                extra=[XY, most("y", "x", 1)])
         self.assertEqual(machine.clashes(), ())
         self.assertIsNone(machine.resolved(ring(XY, most("y", "x", 1)), 0))
 
@@ -351,7 +354,8 @@ class PutTest(MachineCase):
     def test_any_chain_may_be_the_reason(self):
         zero, loop = most("x", "y", 0), most("y", "x", 0)
         for bounds in [(zero,), (zero, loop, zero), (zero, loop, zero, loop, zero)]:
-            machine = machine_after(Question(), ("decide", zero), ("decide", loop), extra=[zero, loop, most("x", "y", 4)])
+            machine = machine_after(Question(), ("decide", zero), ("decide", loop),
+                                    extra=[zero, loop, most("x", "y", 4)])
             self.assertEqual(machine.forced(), ((most("x", "y", 4), chain(zero)),))
             machine.do(("put", most("x", "y", 4), chain(*bounds)))
             self.assertEqual(machine.trail[-1], (most("x", "y", 4), 2, chain(*bounds)))
@@ -440,7 +444,8 @@ class DecideTest(MachineCase):
 
     def test_broken_conditions(self):
         machine = machine_after(Question([P, Q, XY]), ("decide", P))
-        self.refused(machine, ("decide", P), ("decide", NP), ("decide", R), ("decide", YZ), ("decide", most("x", "y", 0)),
+        self.refused(machine, ("decide", P), ("decide", NP), ("decide", R), ("decide", YZ),
+                     ("decide", most("x", "y", 0)),
                      *[("decide", value) for value in NO_LITERALS], ("decide",), ("decide", Q, 0), ["decide", Q],
                      ("decide", list(Q)), ("Decide", Q), ("decide", (Q,)), ("decide", most("x", "y", -1.0)))
         machine = machine_after(Question([NP]), ("decide", P), extra=[Q])
@@ -465,13 +470,15 @@ class LearnTest(MachineCase):
         self.refused(
             self.machine,
             # the result is another clause, or the clause is not in normal form
-            ("learn", clash, 1, (P,)), ("learn", clash, 1, ()), ("learn", clash, 1, (NP, NQ)), ("learn", clash, 1, [NP]),
+            ("learn", clash, 1, (P,)), ("learn", clash, 1, ()), ("learn", clash, 1, (NP, NQ)),
+            ("learn", clash, 1, [NP]),
             ("learn", clash, 1, NP), ("learn", clash, 1, (NP, NP)), ("learn", clash, 1, (list(NP),)),
             *[("learn", clash, 1, value) for value in PLAIN],
             # not asserting
             ("learn", clash, 0, (NP, NQ)),
             # steps that can not be done, or are no number of steps
-            ("learn", clash, 2, (NP,)), ("learn", clash, 2, ()), *[("learn", clash, value, (NP,)) for value in NO_INDEXES],
+            ("learn", clash, 2, (NP,)), ("learn", clash, 2, ()),
+            *[("learn", clash, value, (NP,)) for value in NO_INDEXES],
             # no clash
             ("learn", clause(ANY), 1, (NP,)), ("learn", clause(4), 1, (NP,)), ("learn", list(clash), 1, (NP,)),
             ("learn", clause(False), 1, (NP,)), ("learn", NOT_BOTH, 1, (NP,)), ("learn", None, 1, (NP,)),
@@ -590,7 +597,8 @@ class RestartTest(MachineCase):
 
     def test_what_is_forgotten(self):
         machine = forgetful_machine()
-        self.assertEqual([machine.learnt, machine.numbers], [((6, (no("a"), no("b"), no("c")), 3),), (0, 1, 2, 3, 4, 5)])
+        self.assertEqual([machine.learnt, machine.numbers],
+                         [((6, (no("a"), no("b"), no("c")), 3),), (0, 1, 2, 3, 4, 5)])
         self.assertEqual(machine.clause_at(6), (no("a"), no("b"), no("c")))
         self.assertEqual([machine.trail, machine.restarts, machine.since], [(), 1, 0])
 
@@ -637,15 +645,19 @@ class EndTest(MachineCase):
             self.full(),
             # other truths, other moments, a bound that does not hold
             ("yes", ((), times)), ("yes", (("p", "q"), times)), ("yes", (("p", "s"), times)), ("yes", (("q",), times)),
-            ("yes", (("p", "x"), times)), ("yes", (("p",), ())), ("yes", (("p",), times[:1])), ("yes", (("p",), times[1:])),
+            ("yes", (("p", "x"), times)), ("yes", (("p",), ())), ("yes", (("p",), times[:1])),
+            ("yes", (("p",), times[1:])),
             ("yes", (("p",), (*times, ("z", 0)))), ("yes", (("p",), (("a", 3), *times))),
             ("yes", (("p",), (("x", 0), ("y", 0)))), ("yes", (("p",), (("x", 2), ("y", 1)))),
             # values of another form
-            ("yes", (["p"], times)), ("yes", (("p",), list(times))), ("yes", [("p",), times]), ("yes", (("p", "p"), times)),
+            ("yes", (["p"], times)), ("yes", (("p",), list(times))), ("yes", [("p",), times]),
+            ("yes", (("p", "p"), times)),
             ("yes", ("p", times)), ("yes", (("p",), times[::-1])), ("yes", (("p",), (*times, times[1]))),
-            ("yes", (("p",), dict(times))), ("yes", (("p",), (("x", 0), ["y", 1]))), ("yes", (("p",), (("x", False), ("y", 1)))),
+            ("yes", (("p",), dict(times))), ("yes", (("p",), (("x", 0), ["y", 1]))),
+            ("yes", (("p",), (("x", False), ("y", 1)))),
             ("yes", (("p",), (("x", 0), ("y", True)))), ("yes", (("p",), (("x", 0), ("y", 1.0)))),
-            ("yes", (("p",), (("x", 0), ("y",)))), ("yes", (("p",), (("x", 0), ("y", 1, 0)))), ("yes", (("p",), times, 0)),
+            ("yes", (("p",), (("x", 0), ("y",)))), ("yes", (("p",), (("x", 0), ("y", 1, 0)))),
+            ("yes", (("p",), times, 0)),
             ("yes", ((P,), times)), ("yes", (("p",),)), ("yes", ()), ("yes", (("p",), None)), ("yes", (None, times)),
             ("yes", ((Stubborn(),), times)), ("yes", (("p",), ((Stubborn(), 0), ("y", 1)))),
             ("yes", (("p",), (("x", Stubborn()), ("y", 1)))), *[("yes", value) for value in PLAIN],
@@ -664,8 +676,10 @@ class EndTest(MachineCase):
 
     def test_no(self):
         machine = machine_after(Question([P], [NP]), ("put", P, clause(1)))
-        self.refused(machine, ("no", clause(1)), ("no", clause(7)), ("no", 0), ("no",), ("no", clause(0), 0), ["no", clause(0)],
-                     ("no", ["clause", 0]), ("no", clause(False)), ("No", clause(0)), *[("no", value) for value in PLAIN])
+        self.refused(machine, ("no", clause(1)), ("no", clause(7)), ("no", 0), ("no",), ("no", clause(0), 0),
+                     ["no", clause(0)],
+                     ("no", ["clause", 0]), ("no", clause(False)), ("No", clause(0)),
+                     *[("no", value) for value in PLAIN])
         machine.do(("no", clause(0)))
         self.assertEqual([machine.state, machine.trail], ["no", ((P, 0, clause(1)),)])
 
@@ -701,7 +715,8 @@ class EndTest(MachineCase):
 
     def test_values_of_any_kind(self):
         for machine in [Machine(SQUARE), machine_after(SQUARE, ("decide", P), ("put", Q, clause(ONLY_WITH)))]:
-            self.refused(machine, *PLAIN, (), [], (None,), (0, P), ((), P), (Stubborn(),), (("decide", P),), (b"decide", P),
+            self.refused(machine, *PLAIN, (), [], (None,), (0, P), ((), P), (Stubborn(),), (("decide", P),),
+                         (b"decide", P),
                          ("decide, p",), "decide p", {"decide": P}, (P, "decide"), ("open",), ("forget", 1))
 
 
@@ -725,7 +740,8 @@ class RankTest(MachineCase):
         self.assertEqual(machine.rank, 27 + 9)
 
     def test_limits(self):
-        for atoms, pace, limit in [((), 4, 1), ([P], 1, 16), ([P], 2, 8), ([P], 3, 8), ([P], 4, 4), ([P, Q, R], 4, 16384),
+        for atoms, pace, limit in [((), 4, 1), ([P], 1, 16), ([P], 2, 8), ([P], 3, 8), ([P], 4, 4),
+                                   ([P, Q, R], 4, 16384),
                                    ([P, Q, R], 255, 512), ([P, Q, R], 256, 256), ([P, Q, R], HUGE, 256)]:
             self.assertEqual(Machine(Question(), extra=atoms, pace=pace).limit, limit)
         many = Machine(Question(), extra=[yes(f"a{index}") for index in range(30)])
@@ -792,7 +808,8 @@ class PaperTest(MachineCase):
     def test_clash_rings(self):
         question = Question([XY, P], [YZ, P], [ZX, P])
         by = {told: number for number, told in enumerate(question.clauses)}
-        machine = machine_after(question, ("decide", NP), *[("put", bound, clause(by[(bound, P)])) for bound in (YZ, XY, ZX)])
+        machine = machine_after(question, ("decide", NP),
+                                *[("put", bound, clause(by[(bound, P)])) for bound in (YZ, XY, ZX)])
         clash = ring(YZ, ZX, XY)
         machine.do(("learn", clash, 3, (P,)))
         paper = machine.paper_of(3)
@@ -804,7 +821,8 @@ class PaperTest(MachineCase):
 
     def test_learnt_from_learnt(self):
         machine = machine_after(SQUARE, ("decide", P), ("put", Q, clause(ONLY_WITH)),
-                                ("learn", clause(NOT_BOTH), 1, (NP,)), ("put", Q, clause(ANY)), ("no", clause(NOT_ALONE)))
+                                ("learn", clause(NOT_BOTH), 1, (NP,)), ("put", Q, clause(ANY)),
+                                ("no", clause(NOT_ALONE)))
         self.assertEqual([step for step in machine.refutation() if step[0] == "learn"][0][:2], ("learn", (NP,)))
         self.assertEqual(machine.paper_of(4)[-1][:2], ("learn", (NP,)))
 

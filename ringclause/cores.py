@@ -1,8 +1,9 @@
 """Least cores: the best suppositions under which a question has no answer."""
 
 from ringclause.errors import HasAnswer, InvalidWeights
+from ringclause.forms import check_weights
 from ringclause.hitting import least_hitting
-from ringclause.literals import check_literal, holds, is_integer
+from ringclause.literals import check_literal, holds
 from ringclause.solving import solve
 
 
@@ -41,8 +42,7 @@ def checked_weights(suppositions, weights):
         return [1 for _ in suppositions]
     if not isinstance(weights, (list, tuple)) or len(weights) != len(suppositions):
         raise InvalidWeights()
-    if not all([is_integer(weight) and weight > 0 for weight in weights]):
-        raise InvalidWeights()
+    check_weights(weights)
     return weights
 
 

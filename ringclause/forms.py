@@ -1,6 +1,6 @@
 """Forms of values that may be of any kind: tuples that begin with a word, values of names, and limits."""
 
-from ringclause.errors import InvalidLimit
+from ringclause.errors import InvalidLimit, InvalidWeights
 from ringclause.literals import is_integer, is_name
 
 
@@ -25,6 +25,12 @@ def check_limit(value, least):
     """Raise InvalidLimit if the value is not an integer of at least `least`."""
     if not is_integer(value) or value < least:
         raise InvalidLimit(value)
+
+
+def check_weights(values):
+    """Raise InvalidWeights if one of the values is not a positive integer."""
+    if not all([is_integer(value) and value > 0 for value in values]):
+        raise InvalidWeights()
 
 
 def is_values(value):

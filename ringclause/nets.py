@@ -80,6 +80,12 @@ class Net:
         return max([-way[0] for way in ways if way is not None])
 
 
+def net_of(literals, moments):
+    """The net of the bounds among literals, with further moments."""
+    bounds = [literal for literal in literals if is_bound(literal)]
+    return Net(*bounds, moments=moments)
+
+
 def check_bound(value):
     """Raise InvalidLiteral if the value is not a bound."""
     if not is_bound(value):

@@ -1,5 +1,6 @@
 """Solving: the search of a question under suppositions, from the beginning to its end."""
 
+from ringclause.errors import NoAnswer
 from ringclause.literals import check_literal, complement
 from ringclause.machine import PACE, SPREAD, Machine
 from ringclause.questions import Question
@@ -15,6 +16,14 @@ def solve(question, *suppositions, order=(), pace=PACE, spread=SPREAD):
     if machine.state == "yes":
         return yes_of(question, asked, machine, log)
     return no_of(question, asked, log, machine.refutation())
+
+
+def answered(question):
+    """The verdict of a question that has an answer."""
+    verdict = solve(question)
+    if verdict.word() == "no":
+        raise NoAnswer(verdict.paper)
+    return verdict
 
 
 def without_duplicates(literals):

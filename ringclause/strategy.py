@@ -1,7 +1,7 @@
 """The strategy: which deed of a machine is done next."""
 
-from ringclause.literals import atom_of, is_bound, moments_of, truths_of
-from ringclause.nets import Net
+from ringclause.literals import atom_of, moments_of, opposite, truths_of
+from ringclause.nets import net_of
 
 
 def planned(machine, *order):
@@ -11,27 +11,46 @@ def planned(machine, *order):
     if machine.state != "open":
         return None
     if machine.clashes():
-        return planned_at_clash(machine, machine.clashes()[0])
+        return deeds_at_clash(machine, machine.clashes()[0])[0]
     if machine.allows(("restart",)):
         return ("restart",)
     if machine.forced():
-        literal, reason = machine.forced()[0]
-        return ("put", literal, reason)
+        return puts_of(machine)[0]
     free = [literal for literal in preferred(machine.atoms, order) if machine.truth_of(literal) == "free"]
-    if free:
-        return ("decide", free[0])
-    literals = [entry[0] for entry in machine.trail]
-    return ("yes", least_values(literals, moments_of(machine.atoms)))
+    return ("decide", free[0]) if free else end_of(machine)
 
 
-def planned_at_clash(machine, clash):
-    """The end with a clash if nothing was decided before it, else the first asserting clause of it."""
+def options_of(machine):
+    """Deeds that are allowed now, at least one while the machine has not ended."""
+    if machine.state != "open":
+        return ()
+    if machine.clashes():
+        return tuple([deed for clash in machine.clashes() for deed in deeds_at_clash(machine, clash)])
+    free = [atom for atom in machine.atoms if machine.truth_of(atom) == "free"]
+    decides = [("decide", literal) for atom in free for literal in (atom, opposite(atom))]
+    restarts = [("restart",)] if machine.allows(("restart",)) else []
+    ends = [] if free else [end_of(machine)]
+    return (*puts_of(machine), *decides, *restarts, *ends)
+
+
+def deeds_at_clash(machine, clash):
+    """The end with a clash if nothing was decided before it, else all asserting clauses of it."""
     end = ("no", clash)
     if machine.allows(end):
-        return end
+        return [end]
     clauses = machine.resolutions(clash)
-    asserting = [steps for steps, clause in enumerate(clauses) if machine.is_asserting(clause)]
-    return ("learn", clash, asserting[0], clauses[asserting[0]])
+    return [("learn", clash, steps, clause) for steps, clause in enumerate(clauses) if machine.is_asserting(clause)]
+
+
+def puts_of(machine):
+    """The deeds that put the forced literals."""
+    return [("put", literal, reason) for literal, reason in machine.forced()]
+
+
+def end_of(machine):
+    """The end with yes of a machine that has every atom on its trail and no clash."""
+    literals = [entry[0] for entry in machine.trail]
+    return ("yes", least_values(literals, moments_of(machine.atoms)))
 
 
 def preferred(atoms, order):
@@ -44,7 +63,6 @@ def preferred(atoms, order):
 
 def least_values(literals, moments):
     """The values with the true truths of consistent literals, and the least times that their bounds allow."""
-    bounds = [literal for literal in literals if is_bound(literal)]
     names = truths_of([literal for literal in literals if literal[0] == "yes"])
-    net = Net(*bounds, moments=moments)
+    net = net_of(literals, moments)
     return (names, net.least())

@@ -28,6 +28,18 @@ def some_question(chance, truths=3, bounds=3, clauses=8, most_literals=3):
     return Question(*[some_clause(chance, atoms, most_literals) for _ in range(chance.randrange(clauses + 1))])
 
 
+def loose_question(chance):
+    """A small question with so few clauses that it has many answers."""
+    atoms = some_atoms(chance, chance.randrange(1, 4), chance.randrange(4))
+    clauses = [chance.sample(atoms, min(len(atoms), chance.choice([1, 2, 2, 3]))) for _ in range(chance.randrange(1, 6))]
+    return Question(*[[chance.choice([atom, complement(atom)]) for atom in clause] for clause in clauses])
+
+
+def some_questions(chance):
+    """A small question with many answers, few or none."""
+    return chance.choice([some_question, loose_question, loose_question, dense_question])(chance)
+
+
 def dense_question(chance):
     """A small question with so many clauses that answers are rare."""
     atoms = some_atoms(chance, chance.randrange(2, 5), chance.randrange(1, 5))

@@ -7,7 +7,7 @@ from ringclause.forms import check_limit, is_form, is_index, is_values
 from ringclause.literals import (
     atoms_of, check_literal, is_bound, is_clause, is_literal, literal_stands, moments_of, opposite)
 from ringclause.papers import resolvent
-from ringclause.trails import Trail
+from ringclause.trails import empty_trail, extended
 
 PACE = 4
 SPREAD = 2
@@ -37,8 +37,9 @@ class Machine:
         # The powers of N + 1, the last one of which is B.
         self._powers = powers_of(len(self.atoms) + 1)
         self.limit = ((self._powers[-1] - 1) // pace + 1) * self._powers[-1]
-        self._trail = Trail(self._moments)
-        self._clauses = list(question.clauses)
+        # What deeds change is replaced, never modified, so that a memo may have it as it is.
+        self._trail = empty_trail(self._moments)
+        self._clauses = question.clauses
         self._active = {number: clause for number, clause in enumerate(question.clauses)}
         self._derivations = {}
         self._end = None
@@ -109,9 +110,9 @@ class Machine:
             raise NotAllowed(deed)
         word, *parts = deed
         if word == "put":
-            self._trail.enter(parts[0], self.level, parts[1])
+            self._trail = self._trail.with_entry(parts[0], self.level, parts[1])
         elif word == "decide":
-            self._trail.enter(parts[0], self.level + 1, DECIDED)
+            self._trail = self._trail.with_entry(parts[0], self.level + 1, DECIDED)
         elif word == "learn":
             self._learn(*parts)
         elif word == "restart":
@@ -137,6 +138,17 @@ class Machine:
             # A ring always has bounds and a learnt clause a literal, so this is a clause of the question.
             return (("given", ()),)
         return derived_paper((self._end, rows), (), self._clauses, self._derivations)
+
+    def memo(self):
+        """All that deeds change, for `restore`."""
+        return (self._trail, self._clauses, self._active, self._derivations, self._end,
+                self.state, self.restarts, self.since, self.learnt)
+
+    def restore(self, memo):
+        """Go to the state of a memo of a machine with the same arguments."""
+        self._trail, self._clauses, self._active, self._derivations, self._end = memo[:5]
+        self.state, self.restarts, self.since, self.learnt = memo[5:]
+        self._look()
 
     def _look(self):
         """Work out what the trail and the active clauses tell."""
@@ -262,23 +274,22 @@ class Machine:
     def _learn(self, clash, steps, clause):
         number = len(self._clauses)
         _, rows = self._resolving(clash)
-        self._derivations[number] = (clash, rows[:steps])
+        self._derivations = extended(self._derivations, number, (clash, rows[:steps]))
         levels = sorted([(self._trail.level_of(literal), literal) for literal in clause])
         spread = len({level for level, _ in levels})
         self.learnt = (*self.learnt, (number, clause, spread))
-        self._clauses.append(clause)
-        self._active[number] = clause
+        self._clauses = (*self._clauses, clause)
+        self._active = extended(self._active, number, clause)
         self.since += 1
         below = levels[-2][0] if len(levels) > 1 else 0
-        self._trail.leave(below)
-        self._trail.enter(levels[-1][1], below, ("clause", number))
+        self._trail = self._trail.up_to(below).with_entry(levels[-1][1], below, ("clause", number))
 
     def _restart(self):
-        self._trail.leave(0)
+        self._trail = self._trail.up_to(0)
         reasons = [entry[2] for entry in self._trail.entries]
-        for number, _, spread in self.learnt:
-            if number in self._active and spread > self.spread and ("clause", number) not in reasons:
-                del self._active[number]
+        wide = {number: True for number, _, spread in self.learnt
+                if spread > self.spread and ("clause", number) not in reasons}
+        self._active = {number: clause for number, clause in self._active.items() if number not in wide}
         self.restarts += 1
         self.since = 0
 

@@ -38,6 +38,12 @@ def write_values(values):
     return " ".join([*names, *texts])
 
 
+def write_yes(values):
+    """The line that tells an end with values."""
+    text = write_values(values)
+    return f"yes {text}" if text else "yes"
+
+
 def is_number(text, most):
     """True if the text has digits alone, no leading zero, and at most so many of them."""
     if not 1 <= len(text) <= most or (text[0] == "0" and text != "0"):

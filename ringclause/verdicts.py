@@ -2,7 +2,7 @@
 
 from ringclause.editing import cut_paper, lift_paper
 from ringclause.papertexts import write_literals, write_paper
-from ringclause.texts import write_values
+from ringclause.texts import write_yes
 
 
 class Verdict:
@@ -36,8 +36,7 @@ class Yes(Verdict):
 
     def lines(self):
         """The lines of a verdict, and one with the answer."""
-        text = write_values(self.answer)
-        return (*super().lines(), f"yes {text}" if text else "yes")
+        return (*super().lines(), write_yes(self.answer))
 
 
 class No(Verdict):

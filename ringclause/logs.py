@@ -3,11 +3,10 @@
 The functions called `told_..` return None where a text has not the form, so that the reader can name its line.
 """
 
-from ringclause.errors import InvalidText
 from ringclause.machine import PACE, SPREAD, Machine
 from ringclause.papertexts import BETWEEN_PARTS, told_bounds, told_form, told_index, write_literals
 from ringclause.strategy import planned
-from ringclause.texts import told_clause, told_literal, told_values, write_clause, write_literal, write_yes
+from ringclause.texts import all_read, told_clause, told_literal, told_values, write_clause, write_literal, write_yes
 
 
 def first_wrong(question, log, *, extra=(), pace=PACE, spread=SPREAD):
@@ -40,11 +39,7 @@ def read_log(text):
     """The deeds with this text; whether they are allowed is not checked."""
     if text == "":
         return ()
-    deeds = [told_deed(line) for line in text.split("\n")]
-    for index, deed in enumerate(deeds):
-        if deed is None:
-            raise InvalidText(index + 1)
-    return tuple(deeds)
+    return all_read([told_deed(line) for line in text.split("\n")])
 
 
 def write_deed(deed):

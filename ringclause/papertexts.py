@@ -3,9 +3,9 @@
 The functions called `told_..` return None where a text has not the form, so that the reader can name its line.
 """
 
-from ringclause.errors import InvalidText
 from ringclause.papers import clauses_of
-from ringclause.texts import is_number, told_bound, told_clause, told_integer, told_literal, write_clause, write_literal
+from ringclause.texts import (
+    all_read, is_number, told_bound, told_clause, told_integer, told_literal, write_clause, write_literal)
 
 MOST_INDEX_DIGITS = 9
 BETWEEN_PARTS = " : "
@@ -20,11 +20,7 @@ def write_paper(paper):
 
 def read_paper(text):
     """The steps with this text; whether they are right is not checked."""
-    steps = [told_step(line) for line in text.split("\n")]
-    for index, step in enumerate(steps):
-        if step is None:
-            raise InvalidText(index + 1)
-    return tuple(steps)
+    return all_read([told_step(line) for line in text.split("\n")])
 
 
 def write_step(step):

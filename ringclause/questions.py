@@ -1,8 +1,7 @@
 """Questions: sets of clauses."""
 
-from ringclause.errors import InvalidText
 from ringclause.literals import atoms_of, check_listed, clause_of, clauses_stand, is_clause, moments_of, truths_of
-from ringclause.texts import told_clause, write_clause
+from ringclause.texts import all_read, told_clause, write_clause
 
 
 class Question:
@@ -27,10 +26,7 @@ class Question:
         """The question with this text."""
         if text == "":
             return cls()
-        rows = [told_clause(line) for line in text.split("\n")]
-        for index, clause in enumerate(rows):
-            if clause is None:
-                raise InvalidText(index + 1)
+        rows = all_read([told_clause(line) for line in text.split("\n")])
         return cls(*rows)
 
     def __and__(self, other):

@@ -113,6 +113,14 @@ def told_values(text):
     return (tuple(names), tuple(times))
 
 
+def all_read(rows):
+    """The tuple of what the lines of a text told; the first line that has not the form raises InvalidText."""
+    for index, row in enumerate(rows):
+        if row is None:
+            raise InvalidText(index + 1)
+    return tuple(rows)
+
+
 def read_literal(text):
     """The literal with this text."""
     literal = told_literal(text)

@@ -31,7 +31,8 @@ def some_question(chance, truths=3, bounds=3, clauses=8, most_literals=3):
 def loose_question(chance):
     """A small question with so few clauses that it has many answers."""
     atoms = some_atoms(chance, chance.randrange(1, 4), chance.randrange(4))
-    clauses = [chance.sample(atoms, min(len(atoms), chance.choice([1, 2, 2, 3]))) for _ in range(chance.randrange(1, 6))]
+    sizes = [chance.choice([1, 2, 2, 3]) for _ in range(chance.randrange(1, 6))]
+    clauses = [chance.sample(atoms, min(len(atoms), size)) for size in sizes]
     return Question(*[[chance.choice([atom, complement(atom)]) for atom in clause] for clause in clauses])
 
 

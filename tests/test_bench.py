@@ -290,7 +290,8 @@ class OptionsTest(BenchCase):
         question = Question([P, S], [NQ, NS], [P])
         bench = Bench(question)
         bench.run([("decide", NS), ("decide", NP)])
-        self.assertEqual(bench.options(), (("learn", at(question, P), 0, (P,)), ("learn", at(question, P, S), 0, (P, S))))
+        self.assertEqual(bench.options(),
+                         (("learn", at(question, P), 0, (P,)), ("learn", at(question, P, S), 0, (P, S))))
         question = Question([P], [NP], [NP, Q], [NQ])
         bench = Bench(question)
         bench.run([("put", P, at(question, P))])
@@ -304,8 +305,8 @@ class OptionsTest(BenchCase):
         bench = Bench(question, pace=1)
         bench.run([("decide", P), ("put", Q, at(question, NP, Q)), ("learn", at(question, NP, NQ), 1, (NP,)),
                    ("decide", R)])
-        self.assertEqual(bench.options(), (("put", S, at(question, NR, S)), ("decide", Q), ("decide", NQ), ("decide", S),
-                                           ("decide", NS), ("restart",)))
+        self.assertEqual(bench.options(), (("put", S, at(question, NR, S)), ("decide", Q), ("decide", NQ),
+                                           ("decide", S), ("decide", NS), ("restart",)))
         bench.run([("put", S, at(question, NR, S)), ("decide", NQ)])
         self.assertEqual(bench.options(), (("restart",), ("yes", (("r", "s"), ()))))
 

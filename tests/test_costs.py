@@ -189,7 +189,8 @@ class ErrorTest(CostCase):
 class ChanceTest(CostCase):
     def some_weights(self, chance, question):
         others = some_atoms(chance, 2, 1) + [yes("z"), most("w", "x", 1)]
-        pool = [literal for atom in [*question.atoms, *chance.sample(others, 2)] for literal in (atom, complement(atom))]
+        atoms = [*question.atoms, *chance.sample(others, 2)]
+        pool = [literal for atom in atoms for literal in (atom, complement(atom))]
         chosen = chance.sample(pool, min(len(pool), chance.randrange(1, 6)))
         return {literal: chance.choice([1, 1, 2, 3, 10 ** 29 + 1]) for literal in chosen}
 

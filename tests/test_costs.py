@@ -191,7 +191,7 @@ class ChanceTest(CostCase):
         others = some_atoms(chance, 2, 1) + [yes("z"), most("w", "x", 1)]
         atoms = [*question.atoms, *chance.sample(others, 2)]
         pool = [literal for atom in atoms for literal in (atom, complement(atom))]
-        chosen = chance.sample(pool, min(len(pool), chance.randrange(1, 6)))
+        chosen = chance.sample(pool, min(len(pool), chance.randrange(1, 8)))
         return {literal: chance.choice([1, 1, 2, 3, 10 ** 29 + 1]) for literal in chosen}
 
     def test_against_all_standings(self):
@@ -207,7 +207,7 @@ class ChanceTest(CostCase):
                 self.assertEqual(self.check(question, weights), expected)
                 sizes.append(len(expected))
         for size in range(4):
-            self.assertGreater(sizes.count(size), 5, size)
+            self.assertGreater(sizes.count(size), 10, size)
 
     def test_bounds_between_two_moments(self):
         chance = random.Random(75)
